@@ -1,0 +1,1 @@
+"""Ladderlots: lots drawn by ladders."""
