@@ -16,6 +16,12 @@ def check_rungs(posts, rungs):
             raise NoRung(f"rung {rung} joins no two of {posts} posts")
 
 
+def cross(held, rung):
+    left = held[rung]
+    held[rung] = held[rung + 1]
+    held[rung + 1] = left
+
+
 class Ladder:
     def __init__(self, posts, rungs=None):
         check_posts(posts)
@@ -50,9 +56,7 @@ class Ladder:
             raise Unlike("there are not as many things as posts")
         held = list(things)
         for rung in self.rungs:
-            left = held[rung]
-            held[rung] = held[rung + 1]
-            held[rung + 1] = left
+            cross(held, rung)
         return held
 
     def turned(self):

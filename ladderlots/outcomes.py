@@ -12,6 +12,11 @@ def is_outcome(some):
     return right_length(some) and sorted(some) == list(range(len(some)))
 
 
+def check_outcome(some):
+    if not is_outcome(some):
+        raise NoOutcome("an outcome has each number from 0 to its length less 1 just once")
+
+
 def places(things):
     if not right_length(things):
         raise NoOutcome(f"only from 1 to {MOST_POSTS} numbers have places")

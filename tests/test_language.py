@@ -33,6 +33,8 @@ METHODS = set(
     "setdefault split splitlines startswith strip update upper values zfill bit_length".split()
 )
 TWO_UNDERSCORES = {"__init__", "__eq__", "__repr__", "__str__", "__len__"}
+WALKED = {"zip", "enumerate", "reversed", "range", "items", "keys", "values"}
+WALKERS = {"list", "tuple", "dict", "sorted", "sum", "any", "all", "enumerate", "zip"}
 WORDS = re.compile(
     r"\b(type|typing|typing_extensions|enum|Enum|IntEnum|StrEnum|Flag|IntFlag|Generic|Protocol|ABC|ABCMeta|namedtuple"
     r"|NamedTuple|TypedDict|TYPE_CHECKING|abstractmethod)\b|dataclass|overload|contextmanager"
@@ -71,6 +73,32 @@ def bound(node):
     return []
 
 
+def trees():
+    return [(path, ast.parse(path.read_text("ascii"))) for path in files()]
+
+
+def called(node):
+    """The name by which something is called; None if nothing is."""
+    if not isinstance(node, ast.Call):
+        return None
+    return node.func.id if isinstance(node.func, ast.Name) else getattr(node.func, "attr", None)
+
+
+def walked_places(tree):
+    """The nodes that are walked on the spot, as L23 tells."""
+    places = []
+    for node in ast.walk(tree):
+        if isinstance(node, (ast.For, ast.comprehension)):
+            places.append(node.iter)
+        if called(node) in WALKERS or called(node) in ("min", "max") and len(node.args) == 1:
+            places += node.args if called(node) == "zip" else node.args[:1]
+    return places
+
+
+def drawn_from(tree):
+    return [node for node in tree.body if isinstance(node, ast.ImportFrom)]
+
+
 class Language(unittest.TestCase):
     def test_files(self):
         self.assertIn(PACKAGE / "__init__.py", files())
@@ -103,6 +131,82 @@ class Language(unittest.TestCase):
                     self.assertNotIsInstance(node.targets[0], (ast.Tuple, ast.List))
                 if isinstance(node, ast.FormattedValue):
                     self.assertIsInstance(node.value, ast.Name)
+
+    def test_statements_by_themselves_are_calls(self):
+        for path, tree in trees():
+            self.assertIsNotNone(ast.get_docstring(tree), path)
+            for node in ast.walk(tree):
+                if isinstance(node, ast.Expr) and node is not tree.body[0]:
+                    self.assertIsInstance(node.value, ast.Call, (path.name, node.lineno))
+
+    def test_the_top_of_a_file(self):
+        for path, tree in trees():
+            names = []
+            for node in tree.body[1:]:
+                self.assertIsInstance(node, (ast.ImportFrom, ast.FunctionDef, ast.ClassDef, ast.Assign))
+                names += [name for part in getattr(node, "names", []) + getattr(node, "targets", [])
+                          for name in bound(part)] or bound(node)
+            self.assertEqual(len(set(names)), len(names), path)
+
+    def test_no_annotations_and_is_beside_plain_values_alone(self):
+        for path, node in nodes():
+            self.assertIsNone(getattr(node, "annotation", None))
+            self.assertIsNone(getattr(node, "returns", None))
+            if isinstance(node, ast.Compare) and any(isinstance(op, (ast.Is, ast.IsNot)) for op in node.ops):
+                asked = [side.value for side in [node.left] + node.comparators if isinstance(side, ast.Constant)]
+                self.assertTrue([value for value in asked if value is None or value is True or value is False])
+
+    def test_walked_at_once(self):
+        for path, tree in trees():
+            places = walked_places(tree)
+            for node in ast.walk(tree):
+                if called(node) in WALKED:
+                    self.assertTrue(any(node is place for place in places), (path.name, node.lineno))
+
+    def test_what_a_loop_walks_is_not_changed_in_it(self):
+        changes = ("append", "clear", "extend", "insert", "pop", "remove", "reverse", "setdefault", "update")
+        for path, loop in nodes():
+            if isinstance(loop, ast.For):
+                walked = {node.id for node in ast.walk(loop.iter) if isinstance(node, ast.Name)}
+                for node in ast.walk(loop):
+                    if called(node) in changes and isinstance(node.func, ast.Attribute):
+                        self.assertNotIn(ast.unparse(node.func.value), walked, (path.name, node.lineno))
+                    if isinstance(node, ast.Subscript) and isinstance(node.ctx, ast.Store):
+                        self.assertNotIn(ast.unparse(node.value), walked, (path.name, node.lineno))
+
+    def test_locals_are_not_called_like_what_stands_at_the_top(self):
+        for path, tree in trees():
+            top = {name.name for node in drawn_from(tree) for name in node.names}
+            top |= {node.name for node in tree.body if isinstance(node, (ast.ClassDef, ast.FunctionDef))}
+            for define in ast.walk(tree):
+                if isinstance(define, ast.FunctionDef):
+                    for node in ast.walk(define):
+                        if isinstance(node, (ast.Name, ast.arg)):
+                            self.assertFalse(top & set(bound(node)), (path.name, node.lineno))
+
+    def test_imports_draw_from_the_file_that_defines_and_never_round(self):
+        defines = {f"ladderlots.{path.stem}": tree for path, tree in trees()}
+        draws = {}
+        for module, tree in defines.items():
+            draws[module] = {node.module for node in drawn_from(tree)}
+            for node in drawn_from(tree):
+                here = [name for part in defines[node.module].body for name in bound(part)]
+                here += [name for part in defines[node.module].body if isinstance(part, ast.Assign)
+                         for name in bound(part.targets[0])]
+                for name in node.names:
+                    self.assertIn(name.name, here)
+        while draws:
+            free = [module for module in draws if not draws[module] & set(draws)]
+            self.assertTrue(free, "files draw from one another")
+            for module in free:
+                del draws[module]
+
+    def test_no_percent_sign_in_texts_and_no_free_exponent(self):
+        for path, node in nodes():
+            if isinstance(node, ast.Constant) and isinstance(node.value, str):
+                self.assertNotIn("%", node.value)
+            if isinstance(node, ast.BinOp) and isinstance(node.op, ast.Pow):
+                self.assertIsInstance(node.right, ast.Constant)
 
     def test_imports_are_the_packages_own(self):
         for path, node in nodes():
